@@ -2,6 +2,7 @@ package plan
 
 import (
 	"isthmus/api"
+	"isthmus/reckon"
 	"isthmus/store"
 )
 
@@ -10,7 +11,7 @@ func called(s *store.Store, which int, of []int) (int, int) {
 	n, e := answered(s, which, of)
 	switch e {
 	case api.OK:
-		return n, noFault
+		return n, reckon.NoFault
 	case api.ErrStorePath:
 		return 0, api.FaultEmpty
 	}
@@ -21,10 +22,10 @@ func answered(s *store.Store, which int, of []int) (int, api.Errno) {
 	switch which {
 	case api.CallConnected:
 		is, e := s.Connected(of[0], of[1])
-		return truth(is), e
+		return reckon.Truth(is), e
 	case api.CallBlock:
 		is, e := s.Block(of[0], of[1])
-		return truth(is), e
+		return reckon.Truth(is), e
 	case api.CallBottleneck:
 		return s.Bottleneck(of[0], of[1])
 	case api.CallSize:

@@ -4,6 +4,7 @@ import (
 	"slices"
 
 	"isthmus/api"
+	"isthmus/reckon"
 	"isthmus/store"
 )
 
@@ -37,7 +38,7 @@ func (r *run) end(fault int) (int, bool) {
 
 // told is what was reckoned, unless that was a fault.
 func (r *run) told(n, fault int) (int, bool) {
-	if fault != noFault {
+	if fault != reckon.NoFault {
 		return r.end(fault)
 	}
 	return n, true
@@ -73,7 +74,7 @@ func (r *run) worth(p part) (int, bool) {
 		if !ok {
 			return 0, false
 		}
-		return r.told(reckon(x.which, of))
+		return r.told(reckon.Worth(x.which, of[0], of[len(of)-1]))
 	case connective:
 		left, ok := r.worth(x.left)
 		if !ok || left == x.settles {
@@ -143,7 +144,7 @@ func (r *run) quantified(q quantifier) (int, bool) {
 		if !ok {
 			return 0, false
 		}
-		if fault := t.take(n); fault != noFault {
+		if fault := t.take(n); fault != reckon.NoFault {
 			return r.end(fault)
 		}
 		if t.settled() {

@@ -1,6 +1,9 @@
 package plan
 
-import "isthmus/api"
+import (
+	"isthmus/api"
+	"isthmus/reckon"
+)
 
 // tally is what a quantifier has come to, body by body.
 type tally struct {
@@ -10,17 +13,17 @@ type tally struct {
 }
 
 func newTally(which int) tally {
-	return tally{which: which, n: truth(which == api.QuantAll)}
+	return tally{which: which, n: reckon.Truth(which == api.QuantAll)}
 }
 
 // take goes on by a body's worth; or there is a fault.
 func (t *tally) take(n int) int {
-	fault := noFault
+	fault := reckon.NoFault
 	switch t.which {
 	case api.QuantAll, api.QuantSome:
 		t.n = n
 	case api.QuantCount, api.QuantSum:
-		t.n, fault = plus(t.n, n)
+		t.n, fault = reckon.Plus(t.n, n)
 	case api.QuantMin:
 		if !t.begun || n < t.n {
 			t.n = n
@@ -44,5 +47,5 @@ func (t tally) total() (int, int) {
 	if !t.begun && (t.which == api.QuantMin || t.which == api.QuantMax) {
 		return 0, api.FaultEmpty
 	}
-	return t.n, noFault
+	return t.n, reckon.NoFault
 }
