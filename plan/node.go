@@ -37,15 +37,3 @@ func binder(name string, bound []string) int {
 func sameNode(a, b api.Node) bool {
 	return a.Kind == b.Kind && a.N == b.N && a.Name == b.Name && slices.EqualFunc(a.Kids, b.Kids, sameNode)
 }
-
-// hangs is on how many of the quantifiers around it a node hangs. The variables of those within it have greater numbers.
-func hangs(n api.Node, around int) int {
-	most := 0
-	if n.Kind == api.EVar && n.N < around {
-		most = n.N + 1
-	}
-	for _, kid := range n.Kids {
-		most = max(most, hangs(kid, around))
-	}
-	return most
-}

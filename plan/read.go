@@ -5,6 +5,7 @@ import (
 
 	"isthmus/api"
 	"isthmus/lex"
+	"isthmus/node"
 )
 
 // reader lays parts out of nodes, as long as these are right.
@@ -100,7 +101,7 @@ func (r *reader) holdsNumber(n api.Node, at spot) bool {
 // keeps asks whether what an ECell keeps stays true as long as it is kept, wherever it was kept.
 func (r *reader) keeps(n api.Node, at spot) bool {
 	kid, level := n.Kids[0], r.cells[n.N]
-	if level > at.around || hangs(kid, at.around) > level {
+	if level > at.around || node.Hangs(kid, at.around) > level {
 		return false
 	}
 	first, is := r.kids[n.N]
