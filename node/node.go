@@ -3,6 +3,14 @@ package node
 
 import "isthmus/api"
 
+// Around is how many quantifiers are around one of a node's kids, where so many are around the node: a quantifier is around its body, and not around its set.
+func Around(n api.Node, kid, around int) int {
+	if n.Kind == api.EQuant && kid == 1 {
+		return around + 1
+	}
+	return around
+}
+
 // Hangs is on how many of the quantifiers around it, the outermost ones, a node hangs. The variables of those within it have greater numbers.
 func Hangs(n api.Node, around int) int {
 	most := 0

@@ -12,6 +12,23 @@ func variable(n int) api.Node { return api.Node{Kind: api.EVar, N: n} }
 
 func of(kind int, kids ...api.Node) api.Node { return api.Node{Kind: kind, Kids: kids} }
 
+// A quantifier is around its body alone; no other part is around anything.
+func TestAround(t *testing.T) {
+	for kind := range 28 {
+		for around := range 5 {
+			for kid := range 4 {
+				want := around
+				if kind == api.EQuant && kid == 1 {
+					want = around + 1
+				}
+				if got := node.Around(of(kind, variable(0), variable(0)), kid, around); got != want {
+					t.Errorf("kid %d of a part of kind %d in %d: %d, wanted %d", kid, kind, around, got, want)
+				}
+			}
+		}
+	}
+}
+
 // A part hangs on those around it that bind a variable in it, and on all that are around these.
 func TestHangs(t *testing.T) {
 	all := of(api.ESetAll)
