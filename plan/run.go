@@ -1,9 +1,8 @@
 package plan
 
 import (
-	"slices"
-
 	"isthmus/api"
+	"isthmus/ask"
 	"isthmus/reckon"
 	"isthmus/store"
 )
@@ -63,10 +62,7 @@ func (r *run) worth(p part) (int, bool) {
 	case constant:
 		return x.n, true
 	case vertex:
-		if !r.store.Has(x.id) {
-			return r.end(api.FaultVertex)
-		}
-		return x.id, true
+		return r.told(ask.Vertex(r.store, x.id))
 	case variable:
 		return r.at[x.number], true
 	case operation:
@@ -88,7 +84,7 @@ func (r *run) worth(p part) (int, bool) {
 		if !ok {
 			return 0, false
 		}
-		return r.told(called(r.store, x.which, of))
+		return r.told(ask.Call(r.store, x.which, of))
 	case quantifier:
 		return r.quantified(x)
 	case cell:
@@ -171,32 +167,25 @@ func (r *run) members(set part) ([]int, bool) {
 	}
 	switch x := set.(type) {
 	case allSet:
-		var ids []int
-		for _, v := range r.store.Vertices() {
-			ids = append(ids, v.ID)
-		}
-		return ids, true
+		return ask.All(r.store), true
 	case namedSet:
-		ids, e := r.store.Members(x.name)
-		return r.found(ids, e, api.FaultSet)
+		return r.found(ask.Named(r.store, x.name))
 	case aroundSet:
 		id, ok := r.worth(x.kid)
 		if !ok {
 			return nil, false
 		}
-		ids, e := r.store.Around(id)
-		return r.found(ids, e, api.FaultVertex)
+		return r.found(ask.Around(r.store, id))
 	case listSet:
 		ids, ok := r.worths(x.kids)
-		slices.Sort(ids)
-		return slices.Compact(ids), ok
+		return ask.List(ids), ok
 	}
 	return nil, false // no other part is a set
 }
 
-// found is a list of the store's, unless it refused; a fault stands for that.
-func (r *run) found(ids []int, e api.Errno, fault int) ([]int, bool) {
-	if e != api.OK {
+// found is the vertices of a set, unless there was a fault.
+func (r *run) found(ids []int, fault int) ([]int, bool) {
+	if fault != reckon.NoFault {
 		r.end(fault)
 		return nil, false
 	}
